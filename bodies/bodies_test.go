@@ -14,6 +14,7 @@ import (
 
 	"mirtower/api"
 	"mirtower/bodies"
+	"mirtower/build"
 )
 
 // numbers are what the numbers of an arbitrary body are taken from: all kinds, no kinds, and no indices.
@@ -689,25 +690,13 @@ func TestConcurrentCalls(t *testing.T) {
 	group.Wait()
 }
 
-// picker returns a function that makes the choices for fill of bytes, and chooses the least when there are none left.
-func picker(b []byte) func(int) int {
-	return func(n int) int {
-		if len(b) == 0 {
-			return 0
-		}
-		x := int(b[0])
-		b = b[1:]
-		return x % n
-	}
-}
-
 // FuzzBodies compares two bodies, which are made of bytes, with the model.
 func FuzzBodies(f *testing.F) {
 	f.Add([]byte{}, []byte{})
 	f.Add([]byte{1, 2, 3, 4}, []byte{1, 2, 3, 4, 0})
 	f.Add([]byte{0, 3, 1, 2, 0, 0, 0, 0, 3, 2, 1}, []byte{2, 4, 1, 2, 3, 4, 5, 6, 7, 2, 2, 2})
 	f.Fuzz(func(t *testing.T, x, y []byte) {
-		a, b := arbitrary(picker(x)), arbitrary(picker(y))
+		a, b := arbitrary(build.Picker(x)), arbitrary(build.Picker(y))
 		checkModel(t, a)
 		checkModel(t, b)
 		checkSame(t, a, copyOf(a))

@@ -10,6 +10,8 @@ import (
 	"testing"
 
 	"mirtower/api"
+	"mirtower/bodies"
+	"mirtower/build"
 	"mirtower/liveness"
 	"mirtower/points"
 	"mirtower/regions"
@@ -18,7 +20,7 @@ import (
 )
 
 // star stands for a Deref in a list of projections, where any other number is the component of a Field.
-const star = -1
+const star = build.Star
 
 // The regions of the sample body: a outlives b, b outlives c, d and e outlive each other, and f is on its own.
 const (
@@ -67,59 +69,14 @@ const (
 	localsNum        // how many there are
 )
 
-// at returns a place.
-func at(local int, projs ...int) api.Place {
-	l := api.Place{Local: local}
-	for _, n := range projs {
-		if n == star {
-			l.Proj = append(l.Proj, api.Proj{Kind: api.Deref})
-		} else {
-			l.Proj = append(l.Proj, api.Proj{Kind: api.Field, Field: n})
-		}
-	}
-	return l
-}
-
-// copyOf, move, number, truth and nothing return operands.
-func copyOf(local int, projs ...int) api.Operand {
-	return api.Operand{Kind: api.Copy, Place: at(local, projs...)}
-}
-
-func move(local int, projs ...int) api.Operand {
-	return api.Operand{Kind: api.Move, Place: at(local, projs...)}
-}
-
-func number(n int64) api.Operand { return api.Operand{Kind: api.ConstInt, N: n} }
-
-func truth(n int64) api.Operand { return api.Operand{Kind: api.ConstBool, N: n} }
-
-func nothing() api.Operand { return api.Operand{Kind: api.ConstUnit} }
-
-// use, borrow, unary, binary and makeTuple return rvalues.
-func use(o api.Operand) api.Rvalue { return api.Rvalue{Kind: api.Use, Args: []api.Operand{o}} }
-
-func borrow(region int, mut bool, l api.Place) api.Rvalue {
-	return api.Rvalue{Kind: api.Borrow, Region: region, Mut: mut, Place: l}
-}
-
-func unary(op int, o api.Operand) api.Rvalue {
-	return api.Rvalue{Kind: api.Unary, Op: op, Args: []api.Operand{o}}
-}
-
-func binary(op int, o, q api.Operand) api.Rvalue {
-	return api.Rvalue{Kind: api.Binary, Op: op, Args: []api.Operand{o, q}}
-}
-
-func makeTuple(l ...api.Operand) api.Rvalue { return api.Rvalue{Kind: api.MakeTuple, Args: l} }
-
-// assign, dead and nop return statements.
-func assign(l api.Place, v api.Rvalue) api.Stmt {
-	return api.Stmt{Kind: api.Assign, Place: l, Rvalue: v}
-}
-
-func dead(local int) api.Stmt { return api.Stmt{Kind: api.Dead, Local: local} }
-
-func nop() api.Stmt { return api.Stmt{Kind: api.Nop} }
+// The functions of package build under short names.
+var (
+	at, ref, tuple                         = build.At, build.Ref, build.Tuple
+	copyOf, move, number, truth, nothing   = build.CopyOf, build.Move, build.Number, build.Truth, build.Nothing
+	use, borrow, unary, binary, makeTuple  = build.Use, build.Borrow, build.Unary, build.Binary, build.MakeTuple
+	assign, dead, nop                      = build.Assign, build.Dead, build.Nop
+	goTo, branch, call, drop, leave, block = build.Goto, build.Branch, build.Call, build.Drop, build.Leave, build.Block
+)
 
 // set returns a statement that defines a local of the type int and uses nothing.
 func set(local int) api.Stmt { return assign(at(local), use(number(1))) }
@@ -133,32 +90,8 @@ func read(target int, locals ...int) api.Term {
 	return t
 }
 
-// goTo, branch, call, drop and leave return terminators.
-func goTo(target int) api.Term { return api.Term{Kind: api.Goto, Targets: []int{target}} }
-
-func branch(o api.Operand, yes, no int) api.Term {
-	return api.Term{Kind: api.If, Args: []api.Operand{o}, Targets: []int{yes, no}}
-}
-
-func call(l api.Place, target int, args ...api.Operand) api.Term {
-	return api.Term{Kind: api.Call, Name: "g", Place: l, Targets: []int{target}, Args: args}
-}
-
-func drop(l api.Place, target int) api.Term {
-	return api.Term{Kind: api.Drop, Place: l, Targets: []int{target}}
-}
-
-func leave() api.Term { return api.Term{Kind: api.Return} }
-
-// block returns a block.
-func block(t api.Term, stmts ...api.Stmt) api.Block { return api.Block{Stmts: stmts, Term: t} }
-
 // sample returns a body with the sample's declarations and some blocks, in new memory.
 func sample(blocks ...api.Block) api.Body {
-	ref := func(mut bool, region, elem int) api.Type {
-		return api.Type{Kind: api.Ref, Mut: mut, Region: region, Elem: elem}
-	}
-	tuple := func(fields ...int) api.Type { return api.Type{Kind: api.Tuple, Fields: fields} }
 	b := api.Body{
 		Name:     "main",
 		Regions:  []string{"a", "b", "c", "d", "e", "f"},
@@ -867,7 +800,7 @@ func odd() []int {
 
 // broken returns a body some of whose numbers are changed to odd ones.
 func broken(b api.Body, pick func(int) int) api.Body {
-	b = clone(b)
+	b = bodies.Clone(b)
 	some := func() int { return odd()[pick(len(odd()))] }
 	for range 1 + pick(4) {
 		c := &b.Blocks[pick(len(b.Blocks))]
@@ -921,46 +854,12 @@ func TestBrokenBodies(t *testing.T) {
 	}
 }
 
-// copyMemory replaces all slices in a value by copies.
-func copyMemory(v reflect.Value) {
-	switch v.Kind() {
-	case reflect.Struct:
-		for i := range v.NumField() {
-			copyMemory(v.Field(i))
-		}
-	case reflect.Slice:
-		if v.IsNil() {
-			return
-		}
-		l := reflect.MakeSlice(v.Type(), v.Len(), v.Len())
-		reflect.Copy(l, v)
-		v.Set(l)
-		for i := range v.Len() {
-			copyMemory(v.Index(i))
-		}
-	}
-}
-
-// clone returns a copy of a body that shares no memory with it.
-func clone(b api.Body) api.Body {
-	copyMemory(reflect.ValueOf(&b).Elem())
-	return b
-}
-
-// overwrite fills a slice up to its capacity.
-func overwrite[T any](l []T, x T) {
-	l = l[:cap(l)]
-	for i := range l {
-		l[i] = x
-	}
-}
-
 // Rule 4 of the document: arguments are not modified, and nothing behind the length of a slice is read.
 func TestKeepsArguments(t *testing.T) {
 	r := rand.New(rand.NewSource(4))
 	for range 100 {
 		b := arbitraryBody(5, r.Intn)
-		want := clone(b)
+		want := bodies.Clone(b)
 		// What is behind the lengths would use all locals.
 		b.Blocks = append(b.Blocks, block(read(0, count(localsNum)...)))[:len(b.Blocks)]
 		for i := range b.Blocks {
@@ -976,7 +875,7 @@ func TestKeepsArguments(t *testing.T) {
 			}
 		}
 		b.Outlives = append(b.Outlives, [2]int{regF, regA})[:len(b.Outlives)]
-		before := clone(b)
+		before := bodies.Clone(b)
 		checkBody(t, b)
 		checkConsequences(t, b)
 		if !reflect.DeepEqual(before, b) {
@@ -991,7 +890,7 @@ func TestKeepsArguments(t *testing.T) {
 // Rule 4 of the document: results share no memory with each other, nor their lists among themselves.
 func TestNewMemory(t *testing.T) {
 	b := sample(block(read(1, x, rb, mx), nop(), nop()), block(branch(copyOf(p), 0, 2)), block(drop(at(me), 1)))
-	before := clone(b)
+	before := bodies.Clone(b)
 	uses, locals := liveness.Uses(b, 2), liveness.Locals(b)
 	pairs, _ := liveness.Regions(b)
 	wantUses, wantPairs := slices.Clone(uses), slices.Clone(pairs)
@@ -1001,23 +900,23 @@ func TestNewMemory(t *testing.T) {
 	}
 	for point := range locals {
 		got := liveness.Locals(b)
-		overwrite(got[point], 77)
+		build.Overwrite(got[point], 77)
 		for other, l := range got {
 			if other != point && !slices.Equal(l, wantLocals[other]) {
 				t.Errorf("the lists of %d and %d share memory", point, other)
 			}
 		}
-		overwrite(got, nil)
+		build.Overwrite(got, nil)
 	}
-	overwrite(liveness.Uses(b, 2), 77)
+	build.Overwrite(liveness.Uses(b, 2), 77)
 	again, _ := liveness.Regions(b)
-	overwrite(again, [2]int{77, 77})
+	build.Overwrite(again, [2]int{77, 77})
 	if !slices.Equal(uses, wantUses) || !equalLists(locals, wantLocals) || !slices.Equal(pairs, wantPairs) {
 		t.Error("results of separate calls share memory")
 	}
-	overwrite(uses, 77)
-	overwrite(locals, nil)
-	overwrite(pairs, [2]int{77, 77})
+	build.Overwrite(uses, 77)
+	build.Overwrite(locals, nil)
+	build.Overwrite(pairs, [2]int{77, 77})
 	if !reflect.DeepEqual(b, before) {
 		t.Error("a result shares memory with the body")
 	}
@@ -1062,43 +961,17 @@ func TestConcurrentCalls(t *testing.T) {
 	group.Wait()
 }
 
-// emptied returns a copy of a body whose empty slices are nil, or all of which are not.
-func emptied(b api.Body, isNil bool) api.Body {
-	b = clone(b)
-	var visit func(v reflect.Value)
-	visit = func(v reflect.Value) {
-		switch v.Kind() {
-		case reflect.Struct:
-			for i := range v.NumField() {
-				visit(v.Field(i))
-			}
-		case reflect.Slice:
-			for i := range v.Len() {
-				visit(v.Index(i))
-			}
-			switch {
-			case v.Len() == 0 && isNil:
-				v.SetZero()
-			case v.Len() == 0:
-				v.Set(reflect.MakeSlice(v.Type(), 0, 1))
-			}
-		}
-	}
-	visit(reflect.ValueOf(&b).Elem())
-	return b
-}
-
 // Rule 4 of the document: an empty slice may be nil or not.
 func TestEmptySlices(t *testing.T) {
 	r := rand.New(rand.NewSource(6))
 	for range 50 {
 		b := arbitraryBody(4, r.Intn)
-		checkBody(t, emptied(b, true))
-		checkBody(t, emptied(b, false))
+		checkBody(t, build.Emptied(b, true))
+		checkBody(t, build.Emptied(b, false))
 	}
 	for _, isNil := range []bool{true, false} {
 		// A place without projections is defined, not used.
-		b := emptied(sample(block(leave(), set(x))), isNil)
+		b := build.Emptied(sample(block(leave(), set(x))), isNil)
 		checkUses(t, b, 0)
 		checkDefines(t, b, 0, x)
 	}
@@ -1206,25 +1079,13 @@ func TestManyLocals(t *testing.T) {
 	checkSize(t, b, locals*(stmts+1), stmts+1)
 }
 
-// picker returns a function that makes choices by bytes, and chooses the least when there are none left.
-func picker(b []byte) func(int) int {
-	return func(n int) int {
-		if len(b) == 0 {
-			return 0
-		}
-		x := int(b[0])
-		b = b[1:]
-		return x % n
-	}
-}
-
 // FuzzLiveness compares bodies that are made of bytes with the model.
 func FuzzLiveness(f *testing.F) {
 	f.Add([]byte{})
 	f.Add([]byte{1, 3, 6, 10, 30, 6, 1, 0, 2, 20, 31, 3})
 	f.Add([]byte(fmt.Sprint(sample())))
 	f.Fuzz(func(t *testing.T, choices []byte) {
-		pick := picker(choices)
+		pick := build.Picker(choices)
 		b := arbitraryBody(8, pick)
 		checkBody(t, b)
 		checkConsequences(t, b)

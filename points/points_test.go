@@ -10,6 +10,7 @@ import (
 	"testing"
 
 	"mirtower/api"
+	"mirtower/build"
 	"mirtower/points"
 )
 
@@ -725,25 +726,13 @@ func TestEmptySlices(t *testing.T) {
 	checkBody(t, api.Body{Blocks: []api.Block{}})
 }
 
-// picker returns a function that makes choices by bytes, and chooses the least when there are none left.
-func picker(b []byte) func(int) int {
-	return func(n int) int {
-		if len(b) == 0 {
-			return 0
-		}
-		x := int(b[0])
-		b = b[1:]
-		return x % n
-	}
-}
-
 // FuzzPoints compares bodies that are made of bytes with the model.
 func FuzzPoints(f *testing.F) {
 	f.Add([]byte{})
 	f.Add([]byte{2, 1, 1, 1, 2, 0, 3, 0})
 	f.Add([]byte(fmt.Sprint(sample())))
 	f.Fuzz(func(t *testing.T, choices []byte) {
-		b := arbitraryBody(picker(choices))
+		b := arbitraryBody(build.Picker(choices))
 		checkBody(t, b)
 		checkConsequences(t, b)
 	})

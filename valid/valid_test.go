@@ -11,6 +11,7 @@ import (
 	"testing"
 
 	"mirtower/api"
+	"mirtower/build"
 	"mirtower/places"
 	"mirtower/regions"
 	"mirtower/types"
@@ -18,7 +19,7 @@ import (
 )
 
 // star stands for a Deref in a list of projections, where any other number is the component of a Field.
-const star = -1
+const star = build.Star
 
 // The types of the sample body.
 const (
@@ -65,72 +66,27 @@ func mutRef(region, elem int) api.Type {
 	return api.Type{Kind: api.Ref, Mut: true, Region: region, Elem: elem}
 }
 
-// tuple returns a tuple.
-func tuple(fields ...int) api.Type { return api.Type{Kind: api.Tuple, Fields: fields} }
+// The functions of package build under short names.
+var (
+	tuple                                 = build.Tuple
+	number, truth, nothing                = build.Number, build.Truth, build.Nothing
+	use, borrow, unary, binary, makeTuple = build.Use, build.Borrow, build.Unary, build.Binary, build.MakeTuple
+	assign, goTo, branch, drop            = build.Assign, build.Goto, build.Branch, build.Drop
+)
 
 // in returns a place in the local of a type of the sample body.
-func in(t int, projs ...int) api.Place {
-	p := api.Place{Local: typesNum - 1 - t}
-	for _, x := range projs {
-		if x == star {
-			p.Proj = append(p.Proj, api.Proj{Kind: api.Deref})
-		} else {
-			p.Proj = append(p.Proj, api.Proj{Kind: api.Field, Field: x})
-		}
-	}
-	return p
-}
+func in(t int, projs ...int) api.Place { return build.At(typesNum-1-t, projs...) }
 
-// copyOf, move, number, truth and nothing return operands.
-func copyOf(t int, projs ...int) api.Operand {
-	return api.Operand{Kind: api.Copy, Place: in(t, projs...)}
-}
+// copyOf and move return operands with a place in the local of a type of the sample body.
+func copyOf(t int, projs ...int) api.Operand { return build.CopyOf(typesNum-1-t, projs...) }
 
-func move(t int, projs ...int) api.Operand {
-	return api.Operand{Kind: api.Move, Place: in(t, projs...)}
-}
+func move(t int, projs ...int) api.Operand { return build.Move(typesNum-1-t, projs...) }
 
-func number(n int64) api.Operand { return api.Operand{Kind: api.ConstInt, N: n} }
-
-func truth(n int64) api.Operand { return api.Operand{Kind: api.ConstBool, N: n} }
-
-func nothing() api.Operand { return api.Operand{Kind: api.ConstUnit} }
-
-// use, borrow, unary, binary and makeTuple return rvalues.
-func use(o api.Operand) api.Rvalue { return api.Rvalue{Kind: api.Use, Args: []api.Operand{o}} }
-
-func borrow(region int, mut bool, p api.Place) api.Rvalue {
-	return api.Rvalue{Kind: api.Borrow, Region: region, Mut: mut, Place: p}
-}
-
-func unary(op int, o api.Operand) api.Rvalue {
-	return api.Rvalue{Kind: api.Unary, Op: op, Args: []api.Operand{o}}
-}
-
-func binary(op int, o, p api.Operand) api.Rvalue {
-	return api.Rvalue{Kind: api.Binary, Op: op, Args: []api.Operand{o, p}}
-}
-
-func makeTuple(l ...api.Operand) api.Rvalue { return api.Rvalue{Kind: api.MakeTuple, Args: l} }
-
-// assign returns an assignment.
-func assign(p api.Place, v api.Rvalue) api.Stmt {
-	return api.Stmt{Kind: api.Assign, Place: p, Rvalue: v}
-}
-
-// goTo, branch, call and drop return terminators.
-func goTo(target int) api.Term { return api.Term{Kind: api.Goto, Targets: []int{target}} }
-
-func branch(o api.Operand, yes, no int) api.Term {
-	return api.Term{Kind: api.If, Args: []api.Operand{o}, Targets: []int{yes, no}}
-}
-
+// call returns a call of a function.
 func call(name string, p api.Place, target int, l ...api.Operand) api.Term {
-	return api.Term{Kind: api.Call, Name: name, Place: p, Targets: []int{target}, Args: l}
-}
-
-func drop(p api.Place, target int) api.Term {
-	return api.Term{Kind: api.Drop, Place: p, Targets: []int{target}}
+	t := build.Call(p, target, l...)
+	t.Name = name
+	return t
 }
 
 // goodOperands returns operands that are valid in the sample body.
@@ -1490,30 +1446,13 @@ func TestConcurrentCalls(t *testing.T) {
 	group.Wait()
 }
 
-// picker returns a function that makes choices by bytes, and chooses the least when there are none left.
-func picker(b []byte) func(int) int {
-	return func(n int) int {
-		if len(b) == 0 {
-			return 0
-		}
-		x := int(b[0])
-		b = b[1:]
-		// There may be more choices than bytes have values.
-		if n > 256 && len(b) > 0 {
-			x = x<<8 + int(b[0])
-			b = b[1:]
-		}
-		return x % n
-	}
-}
-
 // FuzzCheck compares bodies that are made of bytes with the model.
 func FuzzCheck(f *testing.F) {
 	f.Add([]byte{})
 	f.Add([]byte{2, 3, 1, 2, 3, 4, 5, 6})
 	f.Add([]byte{1, 0, 5, 9, 10, 11, 12, 13, 1, 0, 77, 3, 0, 1, 2, 3, 4, 5, 6})
 	f.Fuzz(func(t *testing.T, choices []byte) {
-		b := arbitraryBody(picker(choices))
+		b := arbitraryBody(build.Picker(choices))
 		checkBody(t, b, outcome(model{b}.body))
 		checkConsequences(t, b)
 		checkReturns(t, b)
