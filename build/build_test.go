@@ -1,12 +1,16 @@
 package build_test
 
 import (
+	"fmt"
+	"math/rand"
 	"reflect"
 	"slices"
 	"testing"
 
 	"mirtower/api"
+	"mirtower/bodies"
 	"mirtower/build"
+	"mirtower/valid"
 )
 
 // full returns a body that has all kinds of slices, some of which are empty.
@@ -86,4 +90,68 @@ func TestSpare(t *testing.T) {
 	if !slices.Equal(got[:3], []int{9, 9, 9}) || !slices.Equal(l, []int{1, 2, 3}) {
 		t.Errorf("got %v of %v", got[:3], l)
 	}
+}
+
+// checkArbitrary checks that a body is valid, and adds its kinds to those that were seen.
+func checkArbitrary(t *testing.T, b api.Body, most int, seen map[string]int) {
+	t.Helper()
+	if e := valid.Check(b); e != api.OK || len(b.Blocks) > most {
+		t.Fatalf("%+v with at most %d blocks: %v", b, most, e)
+	}
+	for _, x := range b.Types {
+		seen[fmt.Sprint("type ", x.Kind)]++
+	}
+	for _, c := range b.Blocks {
+		for _, s := range c.Stmts {
+			if s.Kind == api.Assign {
+				seen[fmt.Sprint("rvalue ", s.Rvalue.Kind)]++
+			} else {
+				seen[fmt.Sprint("statement ", s.Kind)]++
+			}
+		}
+		for _, o := range bodies.Operands(c) {
+			seen[fmt.Sprint("operand ", o.Kind)]++
+		}
+		seen[fmt.Sprint("terminator ", c.Term.Kind)]++
+	}
+}
+
+// Arbitrary bodies are valid and have all kinds of parts.
+func TestArbitrary(t *testing.T) {
+	r := rand.New(rand.NewSource(1))
+	seen := map[string]int{}
+	for range 1000 {
+		most := 1 + r.Intn(6)
+		checkArbitrary(t, build.Arbitrary(most, r.Intn), most, seen)
+	}
+	for part, kinds := range map[string]int{"type": 5, "operand": 5, "rvalue": 5, "terminator": 6} {
+		for kind := range kinds {
+			if k := fmt.Sprint(part, " ", kind); seen[k] < 100 {
+				t.Errorf("%s only %d times", k, seen[k])
+			}
+		}
+	}
+	if seen["statement 1"] < 100 || seen["statement 2"] < 100 {
+		t.Errorf("got %v", seen)
+	}
+}
+
+// The same choices make the same body, in new memory, and there need not be any.
+func TestArbitraryChoices(t *testing.T) {
+	choices := []byte("Which declarations, statements and terminators a body has is decided by bytes such as these.")
+	b := build.Arbitrary(4, build.Picker(choices))
+	before := bodies.Clone(b)
+	c := build.Arbitrary(4, build.Picker(choices))
+	if !bodies.Equal(b, c) {
+		t.Errorf("got %v and %v", b, c)
+	}
+	visit(reflect.ValueOf(c), func(v reflect.Value) {
+		for i := range v.Len() {
+			v.Index(i).SetZero()
+		}
+	})
+	if !bodies.Equal(b, before) {
+		t.Error("the bodies share memory")
+	}
+	checkArbitrary(t, build.Arbitrary(1, build.Picker(nil)), 1, map[string]int{})
 }
